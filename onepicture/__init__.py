@@ -1,0 +1,1 @@
+"""What hands that wait for nobody can know of all cells."""
