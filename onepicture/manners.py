@@ -38,7 +38,7 @@ def step_in_manner(play, cells, state, hand):
 
 
 def behind_put(script, cell, state):
-    """The same, the step being a put."""
+    """As step_in_manner, of a step that is a put."""
     done, ready = state[0], state[4]
     cell = (cell[0] + 1, script[done][1], ready)
     return cell, state_ahead(script, done + 1), ()

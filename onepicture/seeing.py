@@ -27,7 +27,7 @@ def step_in_seeing(play, cells, state, hand):
 
 
 def step_in_names(play, cells, state, hand):
-    """The same, of a hand that wishes for a new name."""
+    """As step_in_seeing, of a hand that wishes for a new name."""
     wish, is_put = state
     if not is_put:
         return (play.inputs[hand], wish), (wish, True), ()
@@ -49,7 +49,7 @@ def free_number(rank, taken):
 
 
 def step_in_near(play, cells, state, hand):
-    """The same, of a hand that comes near to the values of others."""
+    """As step_in_seeing, of a hand that comes near to the values of others."""
     at, top, is_put = state
     if not is_put:
         return cells[hand] + (top,), (at, top, True), ()
@@ -62,7 +62,7 @@ def step_in_near(play, cells, state, hand):
 
 
 def step_in_chain(play, cells, state, hand):
-    """The same, of a hand that tells all that lots have."""
+    """As step_in_seeing, of a hand that tells all that lots have."""
     if not state[0]:
         return play.inputs[hand], (True,), ()
     lots = [cell for cell in cells if cell is not None]
