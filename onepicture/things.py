@@ -6,6 +6,11 @@ def is_whole(thing):
     return isinstance(thing, int) and not isinstance(thing, bool)
 
 
+def is_number(thing):
+    """Whether it is an integer from 0 on."""
+    return is_whole(thing) and thing >= 0
+
+
 def is_whole_within(least, most, thing):
     """Whether it is an integer from least to most, both in."""
     return is_whole(thing) and least <= thing <= most

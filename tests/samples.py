@@ -2,6 +2,7 @@
 
 from onepicture.errors import BadPlay, NoHand
 from onepicture.plays import Play
+from onepicture.records import Record
 
 
 def nested(depth, wrap):
@@ -19,6 +20,6 @@ def strange_things():
         b"", b"sweep", bytearray(b"near"), memoryview(b"near"), {}, {0: 1}, {"kind": "sweep"}, {(0, 1): (2,)},
         range(0), range(3), slice(1), Ellipsis, NotImplemented, object(), int, len, BadPlay, lambda: 0,
         iter(()), enumerate([]), zip(), (item for item in []), ValueError("sweep"), strange_things,
-        Play("chain", ((1,),)), BadPlay("kind"), NoHand(),
+        Play("chain", ((1,),)), Record(1, ()), BadPlay("kind"), NoHand(),
         nested(39, lambda thing: (thing,)), nested(39, lambda thing: [thing]), nested(39, lambda thing: {1: thing}),
     ]
