@@ -74,8 +74,9 @@ def calls_due(account):
 
 def calls_ready(account, left):
     """Those of the calls left that are to stand behind none of the others left."""
-    first_end = min([account.calls[index][4] for index in left if account.calls[index][4] is not None], default=None)
-    begun = [index for index in left if first_end is None or account.calls[index][3] < first_end]
+    # Where a put that never ended is left, so is a look that tells it: there are ends.
+    first_end = min([account.calls[index][4] for index in left if account.calls[index][4] is not None])
+    begun = [index for index in left if account.calls[index][3] < first_end]
     lowest = lowest_seen(account, left)
     coming = coming_ranks(account, left)
     return [index for index in begun if fits_between(account, index, lowest, coming)]

@@ -267,6 +267,17 @@ class LeastWrongTest(unittest.TestCase):
                             self.assertRaises(TooMany, least_wrong, play, most)
         self.assertGreater(unlike, 40)
 
+    def test_other_kinds_by_the_fault_of_those_that_came(self):
+        play = Play("names", (30, 10, 20))
+        for came in ((0,), (0, 1), (0, 2), (1, 2), (0, 1, 2)):
+            def faulty(play, there, told):
+                return "great" if there == came and told[came[-1]] else None
+
+            with mock.patch.object(weavings, "fault", faulty):
+                wrong = [one for one in all_weavings(play, 6) if is_wrong(play, one)]
+                self.assertEqual(least_wrong(play, 6), wrong[0])
+                self.assertIsNone(least_wrong(play, len(wrong[0]) - 1))
+
     def test_plays_in_sweep_have_some_if_one_sees_and_two_others_put(self):
         for scripts, there in ((((SEE,), (PUT,), (PUT,)), True), (((PUT,), (SEE,), (PUT,)), True),
                                (((PUT,), (PUT,), (SEE,)), True), (((SEE, PUT), (PUT,), ()), False),
